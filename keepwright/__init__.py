@@ -1,0 +1,1 @@
+"""Keepwright: folders kept over time by pieces, any day given back whole."""
