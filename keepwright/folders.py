@@ -86,7 +86,14 @@ def moved(one, other):
     rows = between(one, other)
     gone = [path for sign, path in rows if sign == '-']
     come = [path for sign, path in rows if sign == '+']
-    return tuple((old, new) for old in gone for new in come if one[old] == other[new])
+    found = []
+    for new in come:
+        alike = [old for old in gone if one[old] == other[new]]
+        if alike != []:
+            # A place that a text came from is taken by it: another put in comes from the next such place, or is fresh.
+            gone.remove(alike[0])
+            found.append((alike[0], new))
+    return tuple(sorted(found))
 
 
 def size_of(table):

@@ -217,11 +217,48 @@ class TestMoved(FolderTest):
     def test_bare_texts_and_texts_within(self):
         self.gives(moved({'a': ''}, {'a/b': ''}), (('a', 'a/b'),))
 
-    def test_each_old_place_goes_with_each_new_one(self):
-        self.gives(moved({'a': 'x'}, {'c': 'x', 'b': 'x'}), (('a', 'b'), ('a', 'c')))
-        self.gives(moved({'b': 'x', 'a': 'x'}, {'c': 'x'}), (('a', 'c'), ('b', 'c')))
-        self.gives(moved({'b': 'x', 'a': 'x'}, {'d': 'x', 'c': 'x'}),
-                   (('a', 'c'), ('a', 'd'), ('b', 'c'), ('b', 'd')))
+    def test_one_text_put_in_comes_from_one_place(self):
+        self.gives(moved({'a': '=', 'd/a': 'b', 'd/e/c': 'bb=', 'd/e/x': 'b'}, {'a': '', 'd': 'b'}), (('d/a', 'd'),))
+        self.gives(moved({'b': 'x', 'a': 'x'}, {'c': 'x'}), (('a', 'c'),))
+
+    def test_one_text_left_out_goes_to_one_place(self):
+        self.gives(moved({'a': 'x'}, {'b': 'x', 'c': 'x'}), (('a', 'b'),))
+        self.gives(moved({'b': 'x'}, {'c': 'x', 'a': 'x'}), (('b', 'a'),))
+
+    def test_as_many_left_out_as_put_in_are_taken_in_order(self):
+        self.gives(moved({'a': 'x', 'b': 'x'}, {'c': 'x', 'd': 'x'}), (('a', 'c'), ('b', 'd')))
+        self.gives(moved({'d': 'x', 'c': 'x'}, {'b': 'x', 'a': 'x'}), (('c', 'a'), ('d', 'b')))
+        self.gives(moved({'a': 'x', 'b': 'y', 'c': 'x', 'd': 'y'}, {'e': 'y', 'f': 'x', 'g': 'y', 'h': 'x'}),
+                   (('a', 'f'), ('b', 'e'), ('c', 'h'), ('d', 'g')))
+
+    def test_a_text_left_out_at_two_places_and_put_in_at_none(self):
+        self.gives(moved({'a': 'x', 'b': 'x'}, {}), ())
+        self.gives(moved({'a': 'x', 'b': 'x', 'c': 'y'}, {'c': 'y', 'd': 'z'}), ())
+        self.gives(moved({'a': 'x', 'b': 'x', 'c': 'x'}, {'c': 'x'}), ())
+
+    def test_texts_that_stay_and_stand_at_another_place_too(self):
+        self.gives(moved({'a': 'x', 'b': 'x'}, {'a': 'x', 'c': 'x'}), (('b', 'c'),))
+        self.gives(moved({'a': 'x', 'b': 'x'}, {'a': 'x', 'c': 'x', 'd': 'x'}), (('b', 'c'),))
+        self.gives(moved({'b': 'x', 'c': 'x', 'd': 'x'}, {'b': 'x', 'a': 'x'}), (('c', 'a'),))
+
+    def test_the_bare_text_is_moved_as_any_other(self):
+        self.gives(moved({'a': '', 'b': ''}, {'c': '', 'd': ''}), (('a', 'c'), ('b', 'd')))
+        self.gives(moved({'a': '', 'b': ''}, {'c': ''}), (('a', 'c'),))
+        self.gives(moved({'a': ''}, {'b': '', 'c': ''}), (('a', 'b'),))
+
+    def test_each_place_stands_in_one_row_at_most(self):
+        for one in small_folders():
+            for other in small_folders():
+                with self.subTest(one=one, other=other):
+                    rows = moved(one, other)
+                    self.assertEqual(list(rows), sorted(rows))
+                    texts = [one[old] for old, new in rows]
+                    self.assertEqual(texts, [other[new] for old, new in rows])
+                    for text in ('x', 'y'):
+                        gone = sorted(path for path in one if one[path] == text and path not in other)
+                        come = sorted(path for path in other if other[path] == text and path not in one)
+                        wanted = list(zip(gone, come))
+                        self.assertEqual([row for row in rows if one[row[0]] == text], wanted)
 
 
 class TestChanged(FolderTest):
