@@ -5,6 +5,7 @@ import inspect
 import unittest
 
 from keepwright import errors
+from keepwright.stores import Store
 
 SIGNATURES = {
     'keepwright.folders': {
@@ -31,10 +32,66 @@ SIGNATURES = {
         'check_pieces': '(text, pieces, least, most)',
         'settled': '(one, other)',
     },
+    'keepwright.stores': {
+        'figure': '(text)',
+        'copied': '(store, other, names)',
+        'missing': '(store, names)',
+        'mended': '(store, other)',
+    },
+    'keepwright.trees': {
+        'put_text': '(store, text)',
+        'get_text': '(store, name)',
+        'body': '(store, name, kind)',
+        'words_of': '(text)',
+        'put_folder': '(store, table)',
+        'rows_of': '(store, name)',
+        'get_folder': '(store, name)',
+        'get_path': '(store, name, path)',
+        'needs': '(store, name)',
+        'unlike': "(store, one, other, head='')",
+        'both_trees': '(store, one, other)',
+        'paths_at': '(store, name, head)',
+    },
 }
+
+# Of each class the arguments, the methods and the fields.
+CLASSES = {
+    'keepwright.stores': {
+        'Store': ('(rows=())', {
+            'put': '(self, piece)',
+            'get': '(self, name)',
+            'find': '(self, piece)',
+            'drop': '(self, name)',
+            'names': '(self)',
+            'size': '(self)',
+            'broken': '(self)',
+            'shown': '(self)',
+        }, {'pieces': dict}),
+    },
+    'keepwright.days': {
+        'Days': ('()', {
+            'keep': '(self, time, table)',
+            'give': '(self, time)',
+            'last_at': '(self, time)',
+            'text_at': '(self, time, path)',
+            'forget': '(self, times)',
+            'needed': '(self)',
+            'sweep': '(self)',
+            'when': '(self, path)',
+            'between': '(self, one, other)',
+            'hurt': '(self)',
+            'shown': '(self)',
+        }, {'store': Store, 'times': dict}),
+    },
+}
+
+# What a class is made of, where it can't be made of nothing.
+MADE_OF = {}
 
 CONSTANTS = {
     'keepwright.folders': {'SIGNS': 'abcdefghijklmnopqrstuvwxyz0123456789._-'},
+    'keepwright.stores': {'BASE': 257, 'WIDE': 1000003},
+    'keepwright.trees': {'BOUNDS': (4, 12, 3, 5)},
 }
 
 KINDS = ('BadPath', 'BadPiece', 'BadRule', 'BadPaper', 'BadSize', 'BadStore', 'BadText', 'Lost', 'NoSuch')
@@ -50,6 +107,21 @@ class TestInterface(unittest.TestCase):
                     self.assertEqual(made.__module__, module_name)
                     self.assertEqual(made.__name__, name)
                     self.assertEqual(str(inspect.signature(made)), signature)
+
+    def test_classes(self):
+        for module_name, classes in CLASSES.items():
+            module = importlib.import_module(module_name)
+            for name, (signature, methods, fields) in classes.items():
+                made = getattr(module, name)
+                self.assertEqual(made.__module__, module_name)
+                self.assertEqual(str(inspect.signature(made)), signature)
+                for method, wanted in methods.items():
+                    with self.subTest(name=name, method=method):
+                        self.assertEqual(str(inspect.signature(vars(made)[method])), wanted)
+                thing = made(*MADE_OF.get(name, ()))
+                for field, kind in fields.items():
+                    with self.subTest(name=name, field=field):
+                        self.assertIs(type(vars(thing)[field]), kind)
 
     def test_constants(self):
         for module_name, constants in CONSTANTS.items():
