@@ -52,6 +52,45 @@ SIGNATURES = {
         'both_trees': '(store, one, other)',
         'paths_at': '(store, name, head)',
     },
+    'keepwright.deltas': {
+        'marks': '(text, size)',
+        'delta': '(old, new, size)',
+        'made': '(old, rows)',
+        'cost': '(rows)',
+        'best_delta': '(old, new)',
+        'check_best': '(old, new, heights, rows)',
+        'heights_for': '(old, new)',
+        'behind_each_other': '(first, second)',
+        'together': '(rows)',
+    },
+    'keepwright.chains': {
+        'levels': '(days)',
+        'kept_by': '(folders, days)',
+        'best_wholes': '(folders, most)',
+        'all_marks': '(count)',
+    },
+    'keepwright.rules': {
+        'after_each': '(rule, times)',
+        'both': '(one, other)',
+        'check_stays': '(rule, times, stays)',
+        'most_kept': '(rule)',
+        'widest_gap': '(times)',
+        'tower': '(count, turns)',
+        'on_tapes': '(count, turns)',
+    },
+    'keepwright.packs': {
+        'check_sizes': '(sizes, room)',
+        'first_fit': '(sizes, room)',
+        'fewest': '(sizes, room)',
+        'at_least': '(sizes, room)',
+        'packed': '(left, table, rooms, room, most)',
+        'check_rooms': '(sizes, room, rooms)',
+        'alive': '(sizes, rooms, needed)',
+        'to_write': '(sizes, rooms, needed, part)',
+        'written_anew': '(sizes, rooms, needed, part, room)',
+        'place_of': '(rooms, name)',
+        'rooms_read': '(rooms, names)',
+    },
 }
 
 # Of each class the arguments, the methods and the fields.
@@ -83,15 +122,36 @@ CLASSES = {
             'shown': '(self)',
         }, {'store': Store, 'times': dict}),
     },
+    'keepwright.chains': {
+        'Chain': ('()', {
+            'keep': '(self, table, since=None)',
+            'give': '(self, place)',
+            'way': '(self, place)',
+            'weight': '(self, place)',
+            'to_read': '(self, place)',
+            'to_keep': '(self)',
+            'hangs': '(self, place)',
+        }, {'rows': list}),
+    },
+    'keepwright.rules': {
+        'Rule': ('(last, days, weeks, months)', {
+            'parts': '(self)',
+            'stays': '(self, times)',
+            'goes': '(self, times)',
+            'why': '(self, times, time)',
+            'shown': '(self)',
+        }, {'newest': int, 'days': int, 'weeks': int, 'months': int}),
+    },
 }
 
 # What a class is made of, where it can't be made of nothing.
-MADE_OF = {}
+MADE_OF = {'Rule': (1, 2, 3, 4)}
 
 CONSTANTS = {
     'keepwright.folders': {'SIGNS': 'abcdefghijklmnopqrstuvwxyz0123456789._-'},
     'keepwright.stores': {'BASE': 257, 'WIDE': 1000003},
     'keepwright.trees': {'BOUNDS': (4, 12, 3, 5)},
+    'keepwright.rules': {'DAY': 24, 'WEEK': 168, 'MONTH': 672},
 }
 
 KINDS = ('BadPath', 'BadPiece', 'BadRule', 'BadPaper', 'BadSize', 'BadStore', 'BadText', 'Lost', 'NoSuch')
