@@ -54,8 +54,14 @@ class Store:
 
     def find(self, piece):
         """Return a piece's name, None where it isn't there."""
-        # All names are looked through, as a piece may stand behind a free number. Under the name of another figure
-        # a piece is broken, so it isn't there.
+        # The numbers from nought on are tried ahead of all names, as most pieces are found there at once.
+        head = figure(piece)
+        number = 0
+        while f"{head}.{number}" in self.pieces:
+            if self.pieces[f"{head}.{number}"] == piece:
+                return f"{head}.{number}"
+            number += 1
+        # A piece may stand behind a free number, too. Under the name of another figure it is broken, so not there.
         found = [name for name, held in self.pieces.items() if held == piece and is_right(name, piece)]
         return min(found, default=None)
 

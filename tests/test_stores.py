@@ -252,6 +252,8 @@ class TestMissing(Checks):
         self.gives(names, [SECOND, FIRST, '9.0', '10.0', SECOND, '5.0', '9.0'])
         self.gives(missing(store, (FIRST, '5.0', FIRST)), ())
         self.gives(missing(store, ()), ())
+        many = [f'{number}.0' for number in range(60)]
+        self.gives(missing(store, many), tuple(sorted(name for name in many if name != '5.0')))
         self.gives(missing(Store(), (FIRST,)), (FIRST,))
 
 
