@@ -5,6 +5,7 @@ import inspect
 import unittest
 
 from keepwright import errors
+from keepwright.days import Days
 from keepwright.stores import Store
 
 SIGNATURES = {
@@ -91,6 +92,84 @@ SIGNATURES = {
         'place_of': '(rooms, name)',
         'rooms_read': '(rooms, names)',
     },
+    'keepwright.shares': {
+        'turned': '(number)',
+        'worth_at': '(points, x)',
+        'check_counts': '(few, many)',
+        'shares_of': '(row, few, many)',
+        'given_back': '(shares, few)',
+        'number_rows': '(text, few)',
+        'spread': '(text, few, many)',
+        'gathered': '(lots, few)',
+        'wrong_ones': '(lots, few)',
+        'agree': '(lots, few)',
+        'by_sums': '(lots)',
+    },
+    'keepwright.archives': {
+        'written': '(table)',
+        'entry': '(path, text)',
+        'entries': '(text)',
+        'entry_at': '(text, place)',
+        'is_count': '(word)',
+        'is_path': '(word)',
+        'read': '(text)',
+        'saved': '(text)',
+        'listed': '(text)',
+        'text_of': '(text, path)',
+        'added': '(text, table)',
+        'thinned': '(text)',
+        'index_of': '(text)',
+    },
+    'keepwright.squeezes': {
+        'check_window': '(window, most)',
+        'copies_at': '(text, place, window, most)',
+        'squeezed': '(text, window, most)',
+        'greedy': '(text, window, most)',
+        'told_again': '(rows)',
+        'runs_of': '(text)',
+        'text_of_runs': '(rows)',
+        'weights_of': '(text)',
+        'words_for': '(weights)',
+        'in_words': '(text, words)',
+        'out_of_words': '(bits, words)',
+        'length_by': '(weights, words)',
+    },
+    'keepwright.patterns': {
+        'check_pattern': '(pattern)',
+        'fits': '(pattern, path)',
+        'fit_names': '(pattern, names)',
+        'fit_name': '(pattern, name)',
+        'picked': '(rules, path)',
+        'overs_and': '(path)',
+        'check_rules': '(rules)',
+        'picked_folder': '(rules, table)',
+        'why': '(rules, path)',
+        'idle_rules': '(rules, paths)',
+    },
+    'keepwright.syncs': {
+        'deeds': '(base, left, right)',
+        'brought': '(base, left, right, side)',
+        'put': '(table, path, text)',
+        'is_plain': '(base, left, right)',
+        'to_send': '(base, left, right, side)',
+        'changes_between': '(one, other)',
+        'sent': '(table, changes)',
+    },
+    'keepwright.journals': {
+        'line_of': '(number, changes)',
+        'read_line': '(line, number)',
+        'whole_lines': '(text)',
+        'again': '(text, most=None)',
+        'opened': '(text)',
+        'shortened': '(journal)',
+        'is_whole': '(text)',
+        'cut_lines': '(text)',
+    },
+    'keepwright.desks': {
+        'number': '(word)',
+        'lines_of': '(text)',
+        'done_again': '(text)',
+    },
 }
 
 # Of each class the arguments, the methods and the fields.
@@ -142,6 +221,21 @@ CLASSES = {
             'shown': '(self)',
         }, {'newest': int, 'days': int, 'weeks': int, 'months': int}),
     },
+    'keepwright.journals': {
+        'Journal': ('()', {
+            'do': '(self, changes)',
+            'at': '(self, number)',
+        }, {'folder': dict, 'text': str, 'many': int}),
+    },
+    'keepwright.desks': {
+        'Desk': ('()', {
+            'say': '(self, line)',
+            'do': '(self, line)',
+            'let': '(self, table, words)',
+            'write': '(self, words, answer)',
+            'answer': '(self, words)',
+        }, {'folder': dict, 'kept': Days, 'picks': tuple, 'text': str, 'many': int}),
+    },
 }
 
 # What a class is made of, where it can't be made of nothing.
@@ -152,6 +246,10 @@ CONSTANTS = {
     'keepwright.stores': {'BASE': 257, 'WIDE': 1000003},
     'keepwright.trees': {'BOUNDS': (4, 12, 3, 5)},
     'keepwright.rules': {'DAY': 24, 'WEEK': 168, 'MONTH': 672},
+    'keepwright.shares': {'PRIME': 257, 'LETTERS': 'abcdefghijklmnopqrstuvwxyz0123456789 ._-/='},
+    'keepwright.archives': {'END': 'end'},
+    'keepwright.syncs': {'SIDES': ('left', 'right', 'both')},
+    'keepwright.desks': {'FIGURES': '0123456789'},
 }
 
 KINDS = ('BadPath', 'BadPiece', 'BadRule', 'BadPaper', 'BadSize', 'BadStore', 'BadText', 'Lost', 'NoSuch')
